@@ -1,0 +1,71 @@
+package read
+
+import (
+	"reflect"
+	"strings"
+	"testing"
+
+	"parley/api"
+	"parley/tree"
+)
+
+func variable(which int) tree.Term { return tree.Term{Kind: tree.Variable, Value: which} }
+func number(value int) tree.Term   { return tree.Term{Kind: tree.Number, Value: value} }
+
+func name(text string, args ...tree.Term) tree.Term {
+	return tree.Term{Kind: tree.Name, Text: text, Args: args}
+}
+
+func TestTreesOfPrograms(t *testing.T) {
+	for _, c := range []struct {
+		text string
+		want []tree.Clause
+	}{
+		{"", nil},
+		{"p.", []tree.Clause{{Head: name("p")}}},
+		{"p(X,f(Y,X),007).q(Y).", []tree.Clause{
+			{Head: name("p", variable(0), name("f", variable(1), variable(0)), number(7))},
+			{Head: name("q", variable(0))},
+		}},
+		{"p:-int(X).", []tree.Clause{{Head: name("p"), Goals: []tree.Item{{Left: name("int", variable(0))}}}}},
+		{"p:-int(X)|int(X),int.", []tree.Clause{{
+			Head:  name("p"),
+			Tests: []tree.Item{{Left: name("int", variable(0))}},
+			Goals: []tree.Item{{Left: name("int", variable(0))}, {Left: name("int")}},
+		}}},
+		{"p(B):-A<B,1\\=f|C:=A,C:=2*A,C=B.", []tree.Clause{{
+			Head: name("p", variable(0)),
+			Tests: []tree.Item{
+				{Left: variable(1), Sign: "<", Right: variable(0)},
+				{Left: number(1), Sign: "\\=", Right: name("f")},
+			},
+			Goals: []tree.Item{
+				{Left: variable(2), Sign: ":=", Right: variable(1)},
+				{Left: variable(2), Sign: ":=", Right: number(2), Op: "*", Last: variable(1)},
+				{Left: variable(2), Sign: "=", Right: variable(0)},
+			},
+		}}},
+	} {
+		got := Program(c.text)
+		if got.Errno != api.OK || got.At != 0 || !reflect.DeepEqual(got.Clauses, c.want) {
+			t.Errorf("%q: %+v, want %+v", c.text, got, c.want)
+		}
+	}
+}
+
+func TestFaultsComeWithoutClauses(t *testing.T) {
+	for _, c := range []struct {
+		text  string
+		errno api.Errno
+		at    int
+	}{
+		{"p.q:-r.s", api.ErrSyntax, 8},
+		{"p.q(a,b,c,d).", api.ErrBig, 9},
+		{strings.Repeat("p.", 121), api.ErrLong, 0},
+	} {
+		got := Program(c.text)
+		if got.Errno != c.errno || got.At != c.at || got.Clauses != nil {
+			t.Errorf("%q: %+v, want %d, %d and no clauses", c.text, got, c.errno, c.at)
+		}
+	}
+}
