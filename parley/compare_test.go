@@ -38,7 +38,7 @@ func TestEachTokenBehindEachBeginning(t *testing.T) {
 	}{
 		{"", 7}, {"p :-", 7}, {"p :- int ( X )", 6}, {"p :- X < 1", 6}, {"p :- X = 1", 6}, {"p :- int ( X ) |", 6}, {"p :- X < 1 , int ( X )", 5}, {"p :- q , int ( X )", 5}, {"p :- X < 1 | int ( X )", 5},
 	} {
-		sets := beginReading()
+		sets := beginReading("Program")
 		for _, word := range strings.Fields(c.begin) {
 			sets, _ = sets.with(terminalOf(word))
 		}
@@ -53,7 +53,7 @@ func goOn(t *testing.T, begin string, sets reading, reach int) {
 		wantErrno, wantAt := api.ErrSyntax, len(text)
 		if !may {
 			wantAt = len(begin) + 1
-		} else if next.complete() {
+		} else if next.complete("Program") {
 			wantErrno, wantAt = api.OK, 0
 		}
 		if errno, at := parley.Check(text); errno != wantErrno || at != wantAt {
@@ -88,10 +88,10 @@ func TestWalksThroughPrograms(t *testing.T) {
 // walk goes on, nearly always, with a token that may stand there, and ends at a place where the program may end, or anywhere.
 func walk(random *rand.Rand, likes string) string {
 	text := ""
-	sets := beginReading()
+	sets := beginReading("Program")
 	reach := random.Intn(100)
 	for i := 0; len(text) <= api.MaxProgram; i++ {
-		if i >= reach && (sets.complete() || random.Intn(40) == 0) {
+		if i >= reach && (sets.complete("Program") || random.Intn(40) == 0) {
 			break
 		}
 		next, word, ok := chooseWord(random, sets, likes)
@@ -151,25 +151,29 @@ func TestSpoiltPrograms(t *testing.T) {
 	}
 	signs := " \n:-=\\<+*(),|.aZ09;\t\x00\xff"
 	for i := 0; i < 20000; i++ {
-		text := []byte(programs[i%len(programs)])
-		for j := random.Intn(3); j >= 0; j-- {
-			at := random.Intn(len(text))
-			b := signs[random.Intn(len(signs))]
-			switch random.Intn(4) {
-			case 0:
-				text = append(text[:at:at], text[at+1:]...)
-			case 1:
-				text[at] = b
-			case 2:
-				text[at] = byte(random.Intn(256))
-			default:
-				text = append(text[:at:at], append([]byte{b}, text[at:]...)...)
-			}
-		}
-		if compare(t, string(text)); t.Failed() {
+		if compare(t, spoilt(random, programs[i%len(programs)], signs)); t.Failed() {
 			return
 		}
 	}
+}
+
+func spoilt(random *rand.Rand, right string, signs string) string {
+	text := []byte(right)
+	for j := random.Intn(3); j >= 0 && len(text) > 0; j-- {
+		at := random.Intn(len(text))
+		b := signs[random.Intn(len(signs))]
+		switch random.Intn(4) {
+		case 0:
+			text = append(text[:at:at], text[at+1:]...)
+		case 1:
+			text[at] = b
+		case 2:
+			text[at] = byte(random.Intn(256))
+		default:
+			text = append(text[:at:at], append([]byte{b}, text[at:]...)...)
+		}
+	}
+	return string(text)
 }
 
 // Each beginning of a program: a text that ends too early, and one that ends within a sign.

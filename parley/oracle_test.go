@@ -17,6 +17,7 @@ type rule struct {
 // A terminal is a sign, or one of `name` (but int), `int`, `Var`, `1`.
 var grammar = makeGrammar(`
 Program = Clause ; Program Clause
+Lone = Term
 Clause = Head . ; Head :- Goals . ; Head :- Tests | Goals .
 Head = Call
 Call = Word ; Word ( Terms )
@@ -46,10 +47,10 @@ type state struct{ rule, dot, from int }
 // reading is what can be going on behind each token that has been taken.
 type reading [][]state
 
-func beginReading() reading {
+func beginReading(start string) reading {
 	var first []state
 	for i, r := range grammar {
-		if r.left == "Program" {
+		if r.left == start {
 			first = append(first, state{i, 0, 0})
 		}
 	}
@@ -104,13 +105,13 @@ func (sets reading) with(terminal string) (reading, bool) {
 	return closed(append(sets[:len(sets):len(sets)], next)), true
 }
 
-func (sets reading) complete() bool {
+func (sets reading) complete(start string) bool {
 	if len(sets) == 1 {
-		return true // the empty program
+		return start == "Program" // which may be empty
 	}
 	for _, s := range sets[len(sets)-1] {
 		r := grammar[s.rule]
-		if r.left == "Program" && s.from == 0 && s.dot == len(r.right) {
+		if r.left == start && s.from == 0 && s.dot == len(r.right) {
 			return true
 		}
 	}
@@ -194,10 +195,15 @@ func (c *counts) over(t token) bool {
 }
 
 func oracleCheck(text string) (api.Errno, int) {
-	if len(text) > api.MaxProgram {
+	return oracleRead(text, "Program", api.MaxProgram)
+}
+
+// oracleRead reads a text as what start says.
+func oracleRead(text string, start string, most int) (api.Errno, int) {
+	if len(text) > most {
 		return api.ErrLong, 0
 	}
-	sets := beginReading()
+	sets := beginReading(start)
 	count := counts{commas: []int{0}, begins: true}
 	for _, t := range tokensOf(text) {
 		next, may := sets.with(t.terminal)
@@ -209,7 +215,7 @@ func oracleCheck(text string) (api.Errno, int) {
 		}
 		sets = next
 	}
-	if !sets.complete() {
+	if !sets.complete(start) {
 		return api.ErrSyntax, len(text)
 	}
 	return api.OK, 0

@@ -18,7 +18,7 @@ type Answer struct {
 type reader struct {
 	text  string
 	front scan.Token // the first token that has not been taken
-	names []string   // the variables of the clause, in the order in which they first stand
+	names []string   // the variables of the clause or the lone term, in the order in which they first stand
 	errno api.Errno  // why the token at the front was refused
 }
 

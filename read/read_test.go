@@ -69,3 +69,34 @@ func TestFaultsComeWithoutClauses(t *testing.T) {
 		}
 	}
 }
+
+func TestTreesOfTerms(t *testing.T) {
+	for _, c := range []struct {
+		text  string
+		want  tree.Term
+		names []string
+	}{
+		{"a", name("a"), nil},
+		{" 042 ", number(42), nil},
+		{"Xy", variable(0), []string{"Xy"}},
+		{"f(Y,g(X,1,Y))\n", name("f", variable(0), name("g", variable(1), number(1), variable(0))), []string{"Y", "X"}},
+	} {
+		got := Term(c.text)
+		if got.Errno != api.OK || !reflect.DeepEqual(got.Term, c.want) || !reflect.DeepEqual(got.Names, c.names) {
+			t.Errorf("%q: %+v, want %+v, %q", c.text, got, c.want, c.names)
+		}
+	}
+}
+
+func TestFaultsComeWithoutATerm(t *testing.T) {
+	for _, c := range []struct {
+		text  string
+		errno api.Errno
+	}{
+		{"", api.ErrSyntax}, {"f(X) Y", api.ErrSyntax}, {"f(X).", api.ErrSyntax}, {"f(X", api.ErrSyntax}, {"f(X,1234567)", api.ErrBig}, {"f(X)" + strings.Repeat(" ", 61), api.ErrLong},
+	} {
+		if got, want := Term(c.text), (TermAnswer{Errno: c.errno}); !reflect.DeepEqual(got, want) {
+			t.Errorf("%q: %+v, want %+v", c.text, got, want)
+		}
+	}
+}

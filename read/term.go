@@ -6,6 +6,30 @@ import (
 	"parley/tree"
 )
 
+// TermAnswer is what came of a text that is to be a term: the term and the names of its variables, by their numbers; or what is wrong first.
+type TermAnswer struct {
+	Term  tree.Term
+	Names []string
+	Errno api.Errno
+}
+
+// Term reads a text that is one term.
+func Term(text string) TermAnswer {
+	if len(text) > api.MaxTerm {
+		return TermAnswer{Errno: api.ErrLong}
+	}
+	r := reader{text: text, front: scan.Next(text, 0)}
+	term, ok := r.term(1)
+	if ok && r.front.Kind != scan.End {
+		r.refuse(api.ErrSyntax)
+		ok = false
+	}
+	if !ok {
+		return TermAnswer{Errno: r.errno}
+	}
+	return TermAnswer{Term: term, Names: r.names}
+}
+
 // term reads a term of the depth given.
 func (r *reader) term(depth int) (tree.Term, bool) {
 	first := r.front
@@ -63,7 +87,7 @@ func (r *reader) arguments(depth int) ([]tree.Term, bool) {
 	}
 }
 
-// variable answers which one of the clause's variables has this name.
+// variable answers which one of the variables has this name.
 func (r *reader) variable(name string) int {
 	for i, known := range r.names {
 		if known == name {

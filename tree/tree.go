@@ -16,6 +16,23 @@ type Term struct {
 	Args  []Term // of a name
 }
 
+// Label is what two terms that are no variables must have alike, their arguments aside, to be the same.
+type Label struct {
+	Kind  int
+	Value int // of a number
+	Text  string
+	Count int // of arguments
+}
+
+// Label answers the term's label.
+func (t Term) Label() Label {
+	label := Label{Kind: t.Kind, Text: t.Text, Count: len(t.Args)}
+	if t.Kind == Number {
+		label.Value = t.Value
+	}
+	return label
+}
+
 // Item is a test or a goal. One without a sign is a call or, where tests stand, int(t), and has nothing but Left.
 type Item struct {
 	Left  Term
