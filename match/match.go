@@ -41,6 +41,23 @@ func (l *Look) wait(variable int) {
 	}
 }
 
+// Await waits for what a node stands for, if that is a variable without a value.
+func (l *Look) Await(s *store.Store, n int) {
+	label := s.Label(n)
+	if label.Kind == tree.Variable {
+		front := s.Front(n)
+		l.wait(front)
+	}
+}
+
+// Also adds what another look has found, but for what its variables stand for.
+func (l *Look) Also(other Look) {
+	l.No = l.No || other.No
+	for _, variable := range other.Waits {
+		l.wait(variable)
+	}
+}
+
 // Match goes through a pattern and a term together.
 func (l *Look) Match(s *store.Store, pattern tree.Term, term int) {
 	if pattern.Kind == tree.Variable {
@@ -49,8 +66,7 @@ func (l *Look) Match(s *store.Store, pattern tree.Term, term int) {
 	}
 	label := s.Label(term)
 	if label.Kind == tree.Variable {
-		front := s.Front(term)
-		l.wait(front)
+		l.Await(s, term)
 		return
 	}
 	if pattern.Label() != label {
@@ -88,12 +104,8 @@ func (l *Look) Compare(s *store.Store, a int, b int) {
 	}
 	one := s.Label(first)
 	other := s.Label(second)
-	if one.Kind == tree.Variable {
-		l.wait(first)
-	}
-	if other.Kind == tree.Variable {
-		l.wait(second)
-	}
+	l.Await(s, first)
+	l.Await(s, second)
 	if one.Kind == tree.Variable || other.Kind == tree.Variable {
 		return
 	}

@@ -138,3 +138,41 @@ func TestFindingsGoOn(t *testing.T) {
 	}
 	look.Match(&s, variable(-1), one)
 }
+
+func TestAwait(t *testing.T) {
+	var s store.Store
+	var scope store.Scope
+	s.Add(variable(2), &scope)
+	x, y, z := scope.Nodes[0], scope.Nodes[1], scope.Nodes[2]
+	one := s.Add(number(1), &scope)
+	whole := s.Add(name("f", variable(0)), &scope)
+	if !s.Unify(x, y) || !s.Unify(z, one) {
+		t.Fatal("a variable got no value")
+	}
+	var look Look
+	for _, n := range []int{one, z, whole, store.None} {
+		look.Await(&s, n)
+	}
+	if look.Says() != api.Yes {
+		t.Errorf("it waits for %v", look.Waits)
+	}
+	look.Await(&s, y)
+	look.Await(&s, x)
+	if look.Says() != api.Wait || !reflect.DeepEqual(look.Waits, []int{x}) {
+		t.Errorf("it waits for %v, want %d", look.Waits, x)
+	}
+}
+
+func TestAlso(t *testing.T) {
+	look := Look{Stands: []int{7}, Waits: []int{1, 2}}
+	other := Look{Stands: []int{8, 9}, Waits: []int{2, 3}}
+	look.Also(other)
+	if want := (Look{Stands: []int{7}, Waits: []int{1, 2, 3}}); !reflect.DeepEqual(look, want) {
+		t.Errorf("%+v, want %+v", look, want)
+	}
+	look.Also(Look{No: true})
+	look.Also(Look{})
+	if look.Says() != api.No || !reflect.DeepEqual(other.Waits, []int{2, 3}) {
+		t.Errorf("%+v, %+v", look, other)
+	}
+}

@@ -18,6 +18,7 @@ type rule struct {
 var grammar = makeGrammar(`
 Program = Clause ; Program Clause
 Lone = Term
+Query = Goals
 Clause = Head . ; Head :- Goals . ; Head :- Tests | Goals .
 Head = Call
 Call = Word ; Word ( Terms )

@@ -5,6 +5,7 @@ import (
 	"parley/api"
 	"parley/match"
 	"parley/read"
+	"parley/run"
 	"parley/show"
 	"parley/store"
 )
@@ -82,5 +83,15 @@ func waitedFor(look match.Look, variables store.Scope, names []string) []string 
 
 // Run runs a query (P7 to P11).
 func Run(program string, query string, script []api.Pick) (api.Result, api.Errno) {
-	return api.Result{}, api.OK
+	code := read.Program(program)
+	asked := read.Query(query)
+	switch {
+	case code.Errno != api.OK:
+		return api.Result{}, code.Errno
+	case len(script) > api.MaxScript:
+		return api.Result{}, api.ErrLong
+	case asked.Errno != api.OK:
+		return api.Result{}, asked.Errno
+	}
+	return run.Query(code.Clauses, asked.Goals, script), api.OK
 }

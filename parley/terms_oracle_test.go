@@ -229,7 +229,8 @@ func (f *found) compare(a, b term) {
 	}
 }
 
-func (f *found) match(pattern, whole term) {
+// match answers what the pattern's variables stand for.
+func (f *found) match(pattern, whole term) map[string]term {
 	stands := map[string]term{}
 	for _, p := range pattern.places() {
 		if !bothReach(pattern, whole, p) {
@@ -249,6 +250,7 @@ func (f *found) match(pattern, whole term) {
 			f.differs = f.differs || x.text != y.text || len(x.args) != len(y.args)
 		}
 	}
+	return stands
 }
 
 func oracleMatch(pattern, whole string) (int, []string, api.Errno) {

@@ -18,7 +18,7 @@ type Answer struct {
 type reader struct {
 	text  string
 	front scan.Token // the first token that has not been taken
-	names []string   // the variables of the clause or the lone term, in the order in which they first stand
+	names []string   // the variables of the clause, the query or the lone term, in the order in which they first stand
 	errno api.Errno  // why the token at the front was refused
 }
 
@@ -59,6 +59,15 @@ func (r *reader) takeIf(fits bool) bool {
 		return false
 	}
 	r.take()
+	return true
+}
+
+// ends tells whether nothing is left of the text, and refuses what is.
+func (r *reader) ends() bool {
+	if r.front.Kind != scan.End {
+		r.refuse(api.ErrSyntax)
+		return false
+	}
 	return true
 }
 

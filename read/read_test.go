@@ -100,3 +100,37 @@ func TestFaultsComeWithoutATerm(t *testing.T) {
 		}
 	}
 }
+
+func TestTreesOfQueries(t *testing.T) {
+	for _, c := range []struct {
+		text string
+		want []tree.Item
+	}{
+		{"p", []tree.Item{{Left: name("p")}}},
+		{"int(X) , true", []tree.Item{{Left: name("int", variable(0))}, {Left: name("true")}}},
+		{"Y=f(X,Y),X:=07,Z:=X-Y,p(Z)\n", []tree.Item{
+			{Left: variable(0), Sign: "=", Right: name("f", variable(1), variable(0))},
+			{Left: variable(1), Sign: ":=", Right: number(7)},
+			{Left: variable(2), Sign: ":=", Right: variable(1), Op: "-", Last: variable(0)},
+			{Left: name("p", variable(2))},
+		}},
+	} {
+		got := Query(c.text)
+		if got.Errno != api.OK || !reflect.DeepEqual(got.Goals, c.want) {
+			t.Errorf("%q: %+v, want %+v", c.text, got, c.want)
+		}
+	}
+}
+
+func TestFaultsComeWithoutGoals(t *testing.T) {
+	for _, c := range []struct {
+		text  string
+		errno api.Errno
+	}{
+		{"", api.ErrSyntax}, {"p.", api.ErrSyntax}, {"p q", api.ErrSyntax}, {"p,X<1", api.ErrSyntax}, {"int(X)|p", api.ErrSyntax}, {"p,", api.ErrSyntax}, {"p,X=1234567", api.ErrBig}, {"p,p,p,p,p,p,p", api.ErrBig}, {"p" + strings.Repeat(" ", 96), api.ErrLong},
+	} {
+		if got, want := Query(c.text), (QueryAnswer{Errno: c.errno}); !reflect.DeepEqual(got, want) {
+			t.Errorf("%q: %+v, want %+v", c.text, got, want)
+		}
+	}
+}

@@ -20,9 +20,8 @@ func Term(text string) TermAnswer {
 	}
 	r := reader{text: text, front: scan.Next(text, 0)}
 	term, ok := r.term(1)
-	if ok && r.front.Kind != scan.End {
-		r.refuse(api.ErrSyntax)
-		ok = false
+	if ok {
+		ok = r.ends()
 	}
 	if !ok {
 		return TermAnswer{Errno: r.errno}
